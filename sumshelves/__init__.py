@@ -1,0 +1,1 @@
+"""Sumshelves: which rates of asks a store of copies and sums bears."""

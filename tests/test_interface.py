@@ -1,0 +1,75 @@
+"""The interface: its names, where they are defined, and how their parameters are called."""
+
+import inspect
+import unittest
+
+from sumshelves import lots, stores
+
+METHODS = {
+    "__init__": ["self", "text"],
+    "__len__": ["self"],
+    "__contains__": ["self", "value"],
+    "__eq__": ["self", "other"],
+    "with_house": ["self", "name", "strength", "pieces"],
+    "without_house": ["self", "house"],
+    "with_strength": ["self", "house", "strength"],
+    "with_piece": ["self", "house", "piece"],
+    "without_piece": ["self", "house", "number"],
+}
+FUNCTIONS = {
+    stores: {"answers": ["store", "house", "content"], "having": ["store", "item"], "side_by_side": ["one", "other"]},
+    lots: {
+        "had": ["store", "item", "lot"],
+        "shows_had": ["store", "item", "lot", "value"],
+        "items_had": ["store", "lot"],
+        "least_lots": ["store", "item"],
+        "used": ["store", "item"],
+        "losing_lots": ["store", "item"],
+        "awake": ["store", "content"],
+        "losing_content": ["store", "item", "lot"],
+        "shows_losing_content": ["store", "item", "lot", "value"],
+        "blocker": ["many", "family"],
+    },
+}
+TEXT = "items a b\nhouse one 2 a\nhouse two 2 b\nhouse sum 1 a+b"
+
+
+class Interface(unittest.TestCase):
+    def test_functions(self):
+        for module, functions in FUNCTIONS.items():
+            for name, parameters in functions.items():
+                function = getattr(module, name)
+                self.assertEqual(function.__module__, module.__name__)
+                self.assertEqual(list(inspect.signature(function).parameters), parameters)
+
+    def test_methods_stand_in_the_class_itself(self):
+        self.assertEqual(stores.Store.__module__, "sumshelves.stores")
+        for name, parameters in METHODS.items():
+            self.assertEqual(list(inspect.signature(vars(stores.Store)[name]).parameters), parameters)
+
+    def test_calls_by_name(self):
+        store = stores.Store(text=TEXT)
+        self.assertEqual(store.with_house(name="x", strength=1, pieces=((0,),)), store.with_house("x", 1, ((0,),)))
+        self.assertEqual(store.without_house(house=1), store.without_house(1))
+        self.assertEqual(store.with_strength(house=1, strength=4), store.with_strength(1, 4))
+        self.assertEqual(store.with_piece(house=1, piece=(0,)), store.with_piece(1, (0,)))
+        two = store.with_piece(1, (0,))
+        self.assertEqual(two.without_piece(house=1, number=0), two.without_piece(1, 0))
+        self.assertEqual(stores.answers(store=store, house=0, content="10"), "1")
+        self.assertEqual(stores.having(store=store, item=0), (0, 2))
+        other = stores.Store("items c\nhouse x 1 c\nhouse y 1 c")
+        self.assertEqual(stores.side_by_side(other=other, one=store), stores.side_by_side(store, other))
+        self.assertEqual(lots.had(lot=(0,), item=0, store=store), ("had", ((0, 0),)))
+        self.assertIs(lots.shows_had(store=store, item=0, lot=(0,), value=("had", ((0, 0),))), True)
+        self.assertEqual(lots.items_had(store=store, lot=(0, 2)), (0, 1))
+        self.assertEqual(lots.least_lots(store=store, item=0), ((0,), (1, 2)))
+        self.assertEqual(lots.used(store=store, item=0), (0, 1, 2))
+        self.assertEqual(lots.losing_lots(store=store, item=0), ((0, 1), (0, 2)))
+        self.assertEqual(lots.awake(store=store, content="01"), (1, 2))
+        self.assertEqual(lots.losing_content(store=store, item=0, lot=(0, 2)), "10")
+        self.assertIs(lots.shows_losing_content(store=store, item=0, lot=(0, 2), value="10"), True)
+        self.assertEqual(lots.blocker(many=2, family=((0, 1),)), ((0,), (1,)))
+
+
+if __name__ == "__main__":
+    unittest.main()
