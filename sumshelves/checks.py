@@ -1,9 +1,14 @@
 """What a number, a name, a lot and the like are, of any value, and the errors for what is none."""
 
-from sumshelves.errors import BadContent, BadHouse, BadItem, BadLot
+from math import gcd
+
+from sumshelves.errors import (
+    BadContent, BadFraction, BadHouse, BadItem, BadLot, BadNumber, BadPrices, BadRates, NoRates, Wide,
+)
 
 LETTERS = "abcdefghijklmnopqrstuvwxyz"
 LONGEST_NAME = 8
+WIDEST = 6
 
 
 def is_integer(value):
@@ -59,6 +64,29 @@ def is_family(value, many):
     return all([place < following for place, following in zip(places, places[1:])])
 
 
+def is_fraction(value):
+    """Whether this is (top, low) in lowest terms, top from 0 on."""
+    if not isinstance(value, tuple) or len(value) != 2:
+        return False
+    top, low = value
+    return is_integer(top) and is_integer(low) and top >= 0 and low >= 1 and gcd(top, low) == 1
+
+
+def is_share(value):
+    """Whether this is a fraction above 0."""
+    return is_fraction(value) and value[0] > 0
+
+
+def are_fractions(value, many):
+    """Whether this is a tuple of so many fractions: rates of so many items, or prices of so many houses."""
+    return isinstance(value, tuple) and len(value) == many and all([is_fraction(part) for part in value])
+
+
+def is_told(value, word, many):
+    """Whether this is a tuple of so many parts with this word as the first one."""
+    return isinstance(value, tuple) and len(value) == many and value[0] == word
+
+
 def need_item(store, item):
     """BadItem unless this is the number of an item of the store."""
     if not is_below(item, len(store.item_names)):
@@ -81,3 +109,40 @@ def need_content(store, content):
     """BadContent unless this is a content of the store's items."""
     if not is_content(content, len(store.item_names)):
         raise BadContent(content)
+
+
+def need_fraction(value):
+    """BadFraction unless this is a fraction."""
+    if not is_fraction(value):
+        raise BadFraction(value)
+
+
+def need_rates(store, rates):
+    """BadRates unless this is a tuple with a fraction for each item of the store."""
+    if not are_fractions(rates, len(store.item_names)):
+        raise BadRates(rates)
+
+
+def need_some_rates(store, rates):
+    """BadRates, or NoRates if all of these rates are 0."""
+    need_rates(store, rates)
+    if not any([rate[0] > 0 for rate in rates]):
+        raise NoRates(rates)
+
+
+def need_prices(store, prices):
+    """BadPrices unless this is a tuple with a fraction for each house of the store."""
+    if not are_fractions(prices, len(store)):
+        raise BadPrices(prices)
+
+
+def need_number(value, many):
+    """BadNumber unless this is an integer from 0 on below many."""
+    if not is_below(value, many):
+        raise BadNumber(value)
+
+
+def need_few_houses(store):
+    """Wide(6) if the store has more than six houses."""
+    if len(store) > WIDEST:
+        raise Wide(WIDEST)

@@ -12,12 +12,17 @@ def bits_of(numbers):
     return sum([1 << number for number in numbers])
 
 
+def all_contents(many):
+    """All contents of so many items, ascending."""
+    found = [""]
+    for _ in range(many):
+        found = [start + sign for start in found for sign in "01"]
+    return found
+
+
 def contents_with(store, item):
     """All contents with 1 at this item, ascending."""
-    found = [""]
-    for _ in store.item_names:
-        found = [start + sign for start in found for sign in "01"]
-    return [content for content in found if content[item] == "1"]
+    return [content for content in all_contents(len(store.item_names)) if content[item] == "1"]
 
 
 def is_woken(pieces, content):

@@ -62,6 +62,8 @@ def near(value):
         yield from (value[::-1], value.upper(), "2" + value[1:], (value,), list(value), tuple(value), None)
         for at, sign in enumerate(value):
             yield value[:at] + ("1" if sign == "0" else "0") + value[at + 1:]
+    elif value is None:
+        yield from (0, False, (), "None", (None,), ((0, 1),))
     else:
         yield from (value + 1, value - 1, -value - 1, str(value), (value,), None)
         if value in (0, 1):

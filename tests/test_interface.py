@@ -3,7 +3,7 @@
 import inspect
 import unittest
 
-from sumshelves import lots, stores
+from sumshelves import apart, contents, falls, lots, mending, plans, region, stores, whole, worths
 
 METHODS = {
     "__init__": ["self", "text"],
@@ -31,6 +31,21 @@ FUNCTIONS = {
         "blocker": ["many", "family"],
     },
 }
+# These are called by name in test_wrongs.
+OTHERS = {
+    plans: """cheapest_lot house_loads cost_and_worth bears borne shows_borne greatest shows_greatest greatest_times
+        shows_greatest_times slack shows_slack""",
+    contents: "content_side barring_content content_times told_by_contents shows_told_by_contents",
+    region: """sides corners edges broken_side why_side shows_why_side direction shows_direction mixed shows_mixed
+        greatest_beside held_sides""",
+    whole: "whole_plan shows_whole_plan most_of shows_most_of any_asks shows_any_asks most_any",
+    apart: """packed shows_packed losing_packed shows_losing_packed left_lots apart_always shows_apart_always losing_always
+        shows_losing_always""",
+    falls: """behind_falls shows_behind_falls breaking_lots bearing_lots most_falls greatest_behind
+        shows_greatest_behind""",
+    mending: "helping_lots greatest_mending shows_greatest_mending",
+    worths: "worth_line shows_worth_line house_worth two_worths wanted",
+}
 TEXT = "items a b\nhouse one 2 a\nhouse two 2 b\nhouse sum 1 a+b"
 
 
@@ -41,6 +56,13 @@ class Interface(unittest.TestCase):
                 function = getattr(module, name)
                 self.assertEqual(function.__module__, module.__name__)
                 self.assertEqual(list(inspect.signature(function).parameters), parameters)
+
+    def test_others_are_defined_in_their_files(self):
+        for module, names in OTHERS.items():
+            for name in names.split():
+                function = getattr(module, name)
+                self.assertTrue(inspect.isfunction(function))
+                self.assertEqual((function.__module__, function.__name__), (module.__name__, name))
 
     def test_methods_stand_in_the_class_itself(self):
         self.assertEqual(stores.Store.__module__, "sumshelves.stores")
