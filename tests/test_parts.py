@@ -8,7 +8,7 @@ from fractions import Fraction
 from sumshelves.faces import corner_points, determinant, first_planes, keeps_all, meeting, needed, primitive, side_of
 from sumshelves.fracs import common, divided, is_less, minus, multiplied, plus, reduced, scaled, sum_product, total, whole
 from sumshelves.linear import best
-from sumshelves.reaching import borne_or_barred, most_weighed, reach
+from sumshelves.reaching import borne_or_barred, most_weighed, reach, trimmed
 from sumshelves.shapes import shortest
 from tests.asking import NOUGHT, ONE, Asked, read, some_rates, texts_of_kinds, told
 
@@ -92,6 +92,11 @@ class Reaching(unittest.TestCase):
 
     def test_no_rates_are_borne(self):
         self.assertEqual(borne_or_barred((((0,),), ()), (NOUGHT, NOUGHT), (NOUGHT, ONE)), ((), None))
+
+    def test_trimmed(self):
+        rows = [(1, (2,), (1, 1)), (0, (1,), (1, 2)), (0, (0,), (2, 1)), (1, (0,), (1, 2))]
+        self.assertEqual(trimmed(rows, [(2, 1), (3, 4)]), ((0, (0,), (2, 1)), (1, (0,), (1, 2)), (1, (2,), (1, 4))))
+        self.assertEqual(trimmed(rows, [(9, 4), NOUGHT]), ((0, (0,), (2, 1)), (0, (1,), (1, 4))))
 
     def test_whole_weights(self):
         families = (((0,), (1, 2)), ((1,), (0, 2)))

@@ -30,6 +30,15 @@ def weakened(text, most):
     return "\n".join([lines[0]] + [" ".join(row[:2] + [str(min(int(row[2]), most))] + row[3:]) for row in rows])
 
 
+def sums_alone(seed, often):
+    """Stores of six unlike sums of four items with little strength: here whole asks are fewer most often."""
+    chance = random.Random(seed)
+    every = ["+".join(some) for size in range(1, 5) for some in itertools.combinations("abcd", size)]
+    return ["\n".join(["items a b c d"] + [f"house h{LETTERS[at]} {chance.randint(1, 3)} {piece}"
+                                           for at, piece in enumerate(chance.sample(every, 6))]) for _ in range(often)]
+
+
+GAPS = sums_alone(53, 150)
 WEAK = [weakened(text, most) for text in TEXTS for most in (1, 2)]
 
 
@@ -149,7 +158,7 @@ class Plans(unittest.TestCase):
     def test_asks_at_the_edge_of_what_is_borne(self):
         chance = random.Random(2)
         words = {"placing": 0, "barred": 0}
-        for text in TEXTS + WEAK:
+        for text in TEXTS + WEAK[::2] + GAPS:
             store, asked = Store(text), Trees(text)
             asks = edge_asks(chance, asked, store)
             value = whole_plan(store, asks)
