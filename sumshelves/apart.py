@@ -5,7 +5,7 @@ from itertools import combinations
 from sumshelves.checks import is_below, is_rising, is_told, need_item, need_lot
 from sumshelves.errors import BadLot, BadTolls, Out, TwoPieces
 from sumshelves.fracs import ONE
-from sumshelves.lots import blocker, least_lots, losing_lots
+from sumshelves.lots import blocker, is_within, least_lots, losing_lots
 from sumshelves.reaching import reach
 from sumshelves.shares import is_one_of
 from sumshelves.trees import placing_or_tree, wholes
@@ -114,11 +114,6 @@ def rests(family, out, free):
     left = sorted({tuple([house for house in lot if house not in free]) for lot in kept})
     least = [rest for rest in left if not any([is_within(other, rest) for other in left if other != rest])]
     return tuple(sorted(least, key=len))
-
-
-def is_within(lot, other):
-    """Whether each house of the lot is in the other one."""
-    return all([house in other for house in lot])
 
 
 def are_apart(out, free):

@@ -3,7 +3,7 @@
 from math import gcd
 
 from sumshelves.errors import (
-    BadContent, BadFraction, BadHouse, BadItem, BadLot, BadNumber, BadPrices, BadRates, NoRates, Wide,
+    BadContent, BadFraction, BadHouse, BadItem, BadLot, BadNumber, BadPrices, BadRates, NoRates, OtherItems, Wide,
 )
 
 LETTERS = "abcdefghijklmnopqrstuvwxyz"
@@ -64,12 +64,17 @@ def is_family(value, many):
     return all([place < following for place, following in zip(places, places[1:])])
 
 
-def is_fraction(value):
-    """Whether this is (top, low) in lowest terms, top from 0 on."""
+def is_signed(value):
+    """Whether this is (top, low) in lowest terms, low from 1 on; top may be below 0."""
     if not isinstance(value, tuple) or len(value) != 2:
         return False
     top, low = value
-    return is_integer(top) and is_integer(low) and top >= 0 and low >= 1 and gcd(top, low) == 1
+    return is_integer(top) and is_integer(low) and low >= 1 and gcd(top, low) == 1
+
+
+def is_fraction(value):
+    """Whether this is (top, low) in lowest terms, top from 0 on."""
+    return is_signed(value) and value[0] >= 0
 
 
 def is_share(value):
@@ -80,6 +85,11 @@ def is_share(value):
 def are_fractions(value, many):
     """Whether this is a tuple of so many fractions: rates of so many items, or prices of so many houses."""
     return isinstance(value, tuple) and len(value) == many and all([is_fraction(part) for part in value])
+
+
+def is_signed_row(value, many):
+    """Whether this is a tuple of so many fractions, tops perhaps below 0."""
+    return isinstance(value, tuple) and len(value) == many and all([is_signed(part) for part in value])
 
 
 def is_told(value, word, many):
@@ -146,3 +156,9 @@ def need_few_houses(store):
     """Wide(6) if the store has more than six houses."""
     if len(store) > WIDEST:
         raise Wide(WIDEST)
+
+
+def need_same_items(store, other):
+    """OtherItems(other) unless its items' names are those of the store, in the same sequence."""
+    if store.item_names != other.item_names:
+        raise OtherItems(other)

@@ -4,6 +4,7 @@ from math import gcd, lcm
 
 NOUGHT = (0, 1)
 ONE = (1, 1)
+MINUS_ONE = (-1, 1)
 
 
 def reduced(top, low):

@@ -12,6 +12,11 @@ def bits_of(numbers):
     return sum([1 << number for number in numbers])
 
 
+def is_within(lot, around):
+    """Whether each house of the lot is in the lot around it."""
+    return all([house in around for house in lot])
+
+
 def all_contents(many):
     """All contents of so many items, ascending."""
     found = [""]

@@ -115,7 +115,7 @@ class Store:
         """The store in which this house has this strength."""
         need_house(self, house)
         need_strength(strength)
-        return self._with_line(house, strength, self.pieces[house])
+        return relined(self, house, strength, self.pieces[house])
 
     def with_piece(self, house, piece):
         """The store in which this house has this piece behind its own."""
@@ -126,7 +126,7 @@ class Store:
             raise Held(piece)
         if len(self.pieces[house]) == MOST_PIECES:
             raise Many(MOST_PIECES)
-        return self._with_line(house, self.strengths[house], self.pieces[house] + (piece,))
+        return relined(self, house, self.strengths[house], self.pieces[house] + (piece,))
 
     def without_piece(self, house, number):
         """The store in which this house has its piece of this number no more."""
@@ -136,13 +136,14 @@ class Store:
             raise NoPiece(number)
         if len(pieces) == 1:
             raise Bare(house)
-        return self._with_line(house, self.strengths[house], pieces[:number] + pieces[number + 1:])
+        return relined(self, house, self.strengths[house], pieces[:number] + pieces[number + 1:])
 
-    def _with_line(self, house, strength, pieces):
-        """The store in which this house has this strength and these pieces."""
-        lines = self.text.split("\n")
-        lines[house + 1] = house_line(self.item_names, self.house_names[house], strength, pieces)
-        return Store("\n".join(lines))
+
+def relined(store, house, strength, pieces):
+    """The store in which this house has this strength and these pieces."""
+    lines = store.text.split("\n")
+    lines[house + 1] = house_line(store.item_names, store.house_names[house], strength, pieces)
+    return Store("\n".join(lines))
 
 
 def need_strength(strength):

@@ -1,4 +1,4 @@
-"""The examples of sections 4 to 12, as the document prints them, and those of the README."""
+"""The examples of sections 4 to 18, as the document prints them, and those of the README."""
 
 import doctest
 import pathlib
@@ -129,6 +129,77 @@ WORTHS = r"""
 ('wanted', ((2, 1), (2, 1), (0, 1)))
 """
 
+WRITES = r"""
+>>> from sumshelves.stores import Store
+>>> from sumshelves.writes import better_shares, borne_writes, strain_line
+>>> two, three = Store('items a\nhouse x 1 a\nhouse y 1 a'), Store('items a\nhouse x 1 a\nhouse y 1 a\nhouse z 1 a')
+>>> [borne_writes(two, ((1, 1),), ((1, 2),))[0], borne_writes(two, ((3, 2),), ((1, 2),))[0], borne_writes(two, ((0, 1),), ((1, 1),))]
+['plan', 'prices', ('plan', ())]
+>>> [strain_line(two, ((2, 1),), ((1, 1),))[1], strain_line(three, ((2, 1),), ((1, 1),))[1], strain_line(two, ((1, 1),), ((1, 1),))[1]]
+[(((0, 1), (1, 1)), ((1, 1), (1, 1))), (((0, 1), (2, 3)), ((1, 1), (1, 1))), (((0, 1), (1, 2)), ((1, 1), (1, 1)))]
+>>> [better_shares(two, three, ((2, 1),), ((1, 1),)), better_shares(two, two, ((2, 1),), ((1, 1),))]
+[('ranges', (((0, 1), (1, 1), 'more'),)), ('ranges', (((0, 1), (1, 1), 'like'),))]
+"""
+
+BESIDE = r"""
+>>> from sumshelves.beside import bears_all, needless_pieces, same_lots, shows_bears_all, within_region
+>>> from sumshelves.stores import Store
+>>> plain = Store('items a b\nhouse p 1 a\nhouse q 1 b\nhouse r 1 b')
+>>> mixed = Store('items a b\nhouse p 1 a\nhouse q 1 b\nhouse r 1 a+b')
+>>> [bears_all(plain, plain), bears_all(mixed, plain), shows_bears_all(plain, mixed, ('parts', 1, (2,), '11'))]
+[('all', ((0,), (0, 1))), ('parts', 0, (1, 2), '10'), True]
+>>> [needless_pieces(Store('items a b\nhouse p 1 a b\nhouse q 1 a+b')), same_lots(plain, plain), within_region(plain, mixed)[0]]
+[(), ('same',), 'parts']
+"""
+
+HEARD = r"""
+>>> from sumshelves.heard import heard_plan, heard_range, heard_sure, settled_sums, settling, settling_lots, wrong_counts
+>>> from sumshelves.stores import Store
+>>> three = Store('items a b\nhouse one 2 a\nhouse two 2 b\nhouse three 1 a+b')
+>>> twos, last = ((2, 1), (2, 1), (2, 1)), ((0, 1), (0, 1), (1, 1))
+>>> [heard_range(three, twos, 0)[1:3], heard_sure(three, twos, (1, 1), (4, 1))[0], heard_sure(three, twos, (1, 0), (1, 1))[0]]
+[((0, 1), (4, 1)), 'surely', 'open']
+>>> [heard_plan(three, last)[0], len(wrong_counts(three, last)[1]), settling(three, (0, 1, 2), (1, 0))[0]]
+['quarrel', 1, 'two']
+>>> settling(three, (0, 1), (1, 1))
+('row', ((1, 1), (1, 1), (0, 1)))
+>>> [settling_lots(three, (1, 1)), settled_sums(three, (0, 1)), settled_sums(three, (0, 2))]
+[((0, 1),), ((1, 1),), ()]
+"""
+
+CHOOSING = r"""
+>>> from sumshelves.choosing import cheapest
+>>> from sumshelves.offers import choices, chosen
+>>> from sumshelves.stores import Store
+>>> two = Store('items a b\nhouse one 1 a\nhouse two 1 b')
+>>> offers = (('house', 'three', 1, ((0, 1),), 5), ('piece', 0, (1,), 3), ('strength', 1, 2, 2))
+>>> [choices(two, offers)[:4], chosen(two, offers, (0, 2)).text.split('\n')[2:]]
+[((0, ()), (2, (2,)), (3, (1,)), (5, (0,))), ['house two 2 b', 'house three 1 a+b']]
+>>> [cheapest(two, offers, (('had', 0, 1),))[:3], cheapest(two, offers, (('bears', ((1, 1), (2, 1))), ('had', 1, 1)))[:3]]
+[('choice', 5, (0,)), ('choice', 5, (1, 2))]
+"""
+
+HALL = r"""
+>>> from sumshelves.hall import Hall
+>>> hall = Hall(Store('items a b\nhouse p 1 a\nhouse q 1 b\nhouse r 1 a+b'))
+>>> [hall.come(0), hall.come(0), hall.asks, hall.room(1)[0], hall.fall(0), hall.asks]
+[0, 1, ((0, 0, (0,)), (1, 0, (1, 2))), 'refused', (0,), ((1, 0, (1, 2)),)]
+>>> [hall.rise(0), hall.room(0), hall.settle(), hall.asks, hall.come(1), hall.moved, len(hall)]
+[None, ('room', 0), 1, ((1, 0, (0,)),), 2, 1, 2]
+>>> [hall.undo(), hall.undo(), hall.asks, hall.done, hall.redo(), hall.load(2)]
+[None, None, ((1, 0, (1, 2)),), 4, None, 0]
+"""
+
+DESK = r"""
+>>> from sumshelves.desk import Desk
+>>> from sumshelves.journals import journal, read_journal
+>>> desk = Desk('items a b\nhouse p 1 a\nhouse q 1 b\nhouse r 1 a+b\nhall\ncome a')
+>>> [desk.say(line) for line in ('come a', 'at 1', 'room b', 'fall p', 'asks', 'of b', 'bears a 1 b 1', 'bears b 3')]
+['1', 'q r', 'no', '0', '1', '.', 'yes', 'no']
+>>> [journal(desk.hall).split('\n')[4:], read_journal(journal(desk.hall)) == desk.hall, desk.say('undo'), desk.say('asks')]
+[['hall', 'come a', 'come a', 'fall p'], True, 'ok', '0 1']
+"""
+
 
 class Examples(unittest.TestCase):
     def check(self, text):
@@ -169,6 +240,24 @@ class Examples(unittest.TestCase):
 
     def test_worths(self):
         self.check(WORTHS)
+
+    def test_writes(self):
+        self.check(WRITES)
+
+    def test_beside(self):
+        self.check(BESIDE)
+
+    def test_heard(self):
+        self.check(HEARD)
+
+    def test_choosing(self):
+        self.check(CHOOSING)
+
+    def test_hall(self):
+        self.check(">>> from sumshelves.stores import Store\n" + HALL)
+
+    def test_desk(self):
+        self.check(DESK)
 
 
 if __name__ == "__main__":

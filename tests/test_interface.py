@@ -3,7 +3,10 @@
 import inspect
 import unittest
 
-from sumshelves import apart, contents, falls, lots, mending, plans, region, stores, whole, worths
+from sumshelves import (
+    apart, beside, choosing, contents, desk, falls, hall, heard, journals, lots, mending, offers, plans, region, stores, whole,
+    worths, writes,
+)
 
 METHODS = {
     "__init__": ["self", "text"],
@@ -45,6 +48,20 @@ OTHERS = {
         shows_greatest_behind""",
     mending: "helping_lots greatest_mending shows_greatest_mending",
     worths: "worth_line shows_worth_line house_worth two_worths wanted",
+    writes: "borne_writes shows_borne_writes strain_line shows_strain_line better_shares",
+    beside: """bears_all shows_bears_all same_lots shows_same_lots needless_pieces in_other_words joined within_region
+        shows_within_region""",
+    heard: """heard_plan shows_heard_plan heard_range shows_heard_range heard_sure shows_heard_sure settling shows_settling
+        settling_lots settled_sums wrong_counts shows_wrong_counts""",
+    offers: "choices chosen",
+    choosing: "comes_true shows_comes_true cheapest shows_cheapest",
+    journals: "journal read_journal",
+}
+# For each class its file, and its methods that the document tells.
+CLASSES = {
+    "Store": (stores, "with_house without_house with_strength with_piece without_piece"),
+    "Hall": (hall, "come go fall rise settle load room shows_room undo redo trial keep tried copy"),
+    "Desk": (desk, "say"),
 }
 TEXT = "items a b\nhouse one 2 a\nhouse two 2 b\nhouse sum 1 a+b"
 
@@ -63,6 +80,14 @@ class Interface(unittest.TestCase):
                 function = getattr(module, name)
                 self.assertTrue(inspect.isfunction(function))
                 self.assertEqual((function.__module__, function.__name__), (module.__name__, name))
+
+    def test_classes(self):
+        for name, (module, methods) in CLASSES.items():
+            held = getattr(module, name)
+            self.assertEqual((held.__module__, held.__name__, held.__bases__), (module.__name__, name, (object,)))
+            for method in methods.split():
+                self.assertTrue(inspect.isfunction(vars(held)[method]))
+                self.assertEqual(vars(held)[method].__module__, module.__name__)
 
     def test_methods_stand_in_the_class_itself(self):
         self.assertEqual(stores.Store.__module__, "sumshelves.stores")

@@ -4,10 +4,15 @@ import inspect
 import itertools
 import unittest
 
-from sumshelves import apart, contents, errors, falls, mending, plans, region, whole, worths
+from sumshelves import (
+    apart, beside, choosing, contents, errors, falls, heard, mending, offers, plans, region, whole, worths, writes,
+)
 from sumshelves.stores import Store
 from tests.asking import HALF, NOUGHT, ONE, Asked, are_fractions, is_fraction, is_lot
-from tests.plain import any_values, check_raises, number_below, raised, right_content
+from tests.plain import Plain, any_values, check_raises, number_below, raised, right_content
+from tests.test_choosing import Case as Wishes
+from tests.test_heard import is_signed
+from tests.test_offers import right_offers, right_pieces
 
 TEXT = "items a b c\nhouse p 2 a\nhouse q 2 b\nhouse r 1 a+b\nhouse s 3 c\nhouse t 1 a+b+c"
 ASKED = Asked(TEXT)
@@ -20,6 +25,22 @@ def numbers(value, most, many):
 
 def wrong_fractions():
     return [(2, 2), (0, 2), (1, 0), (1, -1), (-1, 1), (True, 1), (1, True), (False, 1), [1, 1], (1,), (1, 1, 1), 1, "1/1", (1, "1"), ((1, 1),)]
+
+
+def small_weights(value):
+    return type(value) is tuple and len(value) == 3 and all(type(part) is int and -9 <= part <= 9 for part in value)
+
+
+def right_wish(value):
+    return Wishes().is_wish(3, value)
+
+
+def right_wishes(value):
+    return type(value) is tuple and 1 <= len(value) <= 3 and all(right_wish(part) for part in value)
+
+
+WISHES = [("bears", (ONE, ONE)), ("bears", [ONE, ONE, ONE]), ("stands", RATES, 3), ("stands", RATES), ("had", 3, 0), ("had", 0, 8), ("had", True, 0), ("any", 3), ("any", True),
+          ["any", 1]]
 
 
 def wrong_rows(many):
@@ -52,6 +73,27 @@ KINDS = {
     "free": (errors.BadLot, (2,), lambda value: is_lot(value, 5) and 0 not in value, [(5,), (0,), (2, 0), [2], (0, 1, 2, 3, 4)]),
 }
 
+# Those of parameters that are called alike elsewhere, by their modules.
+OTHERS = {
+    (falls, "many"): "falls", (heard, "weights"): "small_weights", (heard, "number"): "signed",
+}
+KINDS.update({
+    "reads": (errors.BadRates, RATES, lambda value: are_fractions(value, 3), wrong_rows(3)),
+    "writes": (errors.BadRates, (HALF, ONE, ONE), lambda value: are_fractions(value, 3), wrong_rows(3)),
+    "counts": (errors.BadCounts, (ONE, ONE, ONE, HALF, NOUGHT), lambda value: are_fractions(value, 5), wrong_rows(5)),
+    "small_weights": (errors.BadWeights, (1, -9, 0), small_weights, [(10, 0, 0), (0, -10, 0), (1, 1), [1, 1, 1], (True, 0, 0), (ONE, ONE, ONE)]),
+    "signed": (errors.BadFraction, (-3, 2), is_signed, [part for part in wrong_fractions() if not is_signed(part)] + [(-2, 2), (0, -1), (-1, -1)]),
+    "lot": (errors.BadLot, (0, 3), lambda value: is_lot(value, 5), [(5,), (1, 0), [0], (True,), (0, 0)]),
+    # Pieces of which other sums can be made are another error.
+    "pieces": (errors.BadPieces, ((1,),), lambda value: right_pieces(value, 3), [((3,),), ((1, 0),), ((0,), (0,)), [(1,)], ((0,), (1,), (2,))]),
+    "offers": (errors.BadOffers, (("piece", 0, (1,), 3), ("strength", 1, 5, 2)), lambda value: right_offers(Plain(TEXT), value), [
+        (("piece", 0, (0,), 3),), (("strength", 1, 2, 2),), (("strength", 1, 5, 2), ("piece", 0, (1,), 3)), [("strength", 1, 5, 2)],
+        (("without", 1, 0, 2),), (("strength", 1, 5, 2), ("strength", 1, 5, 3)), (("strength", 1, 5, 100),)]),
+    "choice": (errors.BadChoice, (0, 1), lambda value: is_lot(value, 2), [(2,), (1, 0), [0], (True,), (0, 0)]),
+    "wish": (errors.BadWish, ("stands", RATES, 1), right_wish, WISHES),
+    "wishes": (errors.BadWishes, (("had", 0, 1), ("any", 2)), right_wishes, [(wish,) for wish in WISHES] + WISHES + [(("any", 1),) * 4, [("any", 1)]]),
+})
+
 # For each function its parameters behind the store, and the kinds of those that are called otherwise.
 FUNCTIONS = {
     plans: ["cheapest_lot item prices", "house_loads plan", "cost_and_worth rates prices", "bears rates plan", "borne rates",
@@ -72,6 +114,15 @@ FUNCTIONS = {
     mending: ["helping_lots house", "greatest_mending house rates", "shows_greatest_mending house rates value"],
     worths: ["worth_line rates house", "shows_worth_line rates house value", "house_worth rates house",
              "two_worths rates house beside", "wanted rates"],
+    writes: ["borne_writes reads writes", "shows_borne_writes reads writes value", "strain_line reads writes",
+             "shows_strain_line reads writes value"],
+    beside: ["needless_pieces", "in_other_words house pieces"],
+    heard: ["heard_plan counts", "shows_heard_plan counts value", "heard_range counts item", "shows_heard_range counts item value",
+            "heard_sure counts weights number", "shows_heard_sure counts weights number value", "settling lot weights",
+            "shows_settling lot weights value", "settling_lots weights", "settled_sums lot", "wrong_counts counts",
+            "shows_wrong_counts counts value"],
+    offers: ["choices offers", "chosen offers choice"],
+    choosing: ["comes_true wish", "shows_comes_true wish value", "cheapest offers wishes", "shows_cheapest offers wishes value"],
 }
 
 
@@ -80,7 +131,7 @@ def rows():
     for module, lines in FUNCTIONS.items():
         for line in lines:
             name, *parameters = line.split(" ")
-            kinds = ["falls" if module is falls and kind == "many" else kind for kind in parameters]
+            kinds = [OTHERS.get((module, kind), kind) for kind in parameters]
             yield getattr(module, name), parameters, kinds
 
 
