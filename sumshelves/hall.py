@@ -140,8 +140,7 @@ class Hall:
             return is_tree(self.families, self._asked_with(item), self._left(self.down), value[1])
         if not is_told(value, "room", 2) or not is_integer(value[1]):
             return False
-        seats, moves, _ = self._seats_with(item)
-        return seats is not None and value[1] == moves
+        return value == self.room(item)
 
     def undo(self):
         """Takes the last deed back that stands."""

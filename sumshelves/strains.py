@@ -96,7 +96,7 @@ def strain_at(families, strengths, rates, share):
 
 
 def stretches_between(families, strengths, rates, left, right):
-    """The list of (prices, share, strain) for each stretch between two points, with the share at which it ends.
+    """The list of (prices, share) for each stretch between two points, with the share at which it ends.
 
     A point is (share, strain, prices) with prices at which reads and writes cost the strain there. What they cost at
     other shares is never more than the strain: so prices that cost it at both ends cost it all along between them.
@@ -105,31 +105,30 @@ def stretches_between(families, strengths, rates, left, right):
     end, most, others = right
     one, other = costs_of(families, rates, prices), costs_of(families, rates, others)
     if value_at(one, end) == most:
-        return [(prices, end, most)]
+        return [(prices, end)]
     if value_at(other, start) == strain:
-        return [(others, end, most)]
+        return [(others, end)]
     ahead, steeper = minus(one[0], other[0]), minus(minus(other[1], other[0]), minus(one[1], one[0]))
     share = divided(ahead, steeper)
     found, _, between = strain_at(families, strengths, rates, share)
     if found == value_at(one, share):
-        return [(prices, share, found), (others, end, most)]
+        return [(prices, share), (others, end)]
     middle = (share, found, between)
     first = stretches_between(families, strengths, rates, left, middle)
     return first + stretches_between(families, strengths, rates, middle, right)
 
 
 def stretches_of(families, strengths, rates):
-    """The list of (prices, share, strain) for each stretch from 0 to 1 along which the strain goes straight."""
+    """The list of (prices, share) for each stretch from 0 to 1 along which the strain goes straight, and its end."""
     points = []
     for share in (NOUGHT, ONE):
         strain, _, prices = strain_at(families, strengths, rates, share)
         points.append((share, strain, prices))
     found = []
-    for row in stretches_between(families, strengths, rates, points[0], points[1]):
-        costs = costs_of(families, rates, row[0])
-        # Where two rows of prices let both costs be the same, it goes on straight.
-        if found and costs == costs_of(families, rates, found[-1][0]):
-            row = (found[-1][0], row[1], row[2])
+    for prices, share in stretches_between(families, strengths, rates, points[0], points[1]):
+        # Where both costs are the same by two rows of prices, it goes on straight.
+        if found and costs_of(families, rates, prices) == costs_of(families, rates, found[-1][0]):
+            prices = found[-1][0]
             found = found[:-1]
-        found = found + [row]
+        found = found + [(prices, share)]
     return found

@@ -13,7 +13,7 @@ from sumshelves.lots import least_lots
 from sumshelves.plans import borne
 from sumshelves.region import corners
 from sumshelves.stores import Store
-from tests.asking import NOUGHT, ONE, Asked, are_fractions, check_shown, made_rates, shown, texts_of_kinds, times_rates
+from tests.asking import NOUGHT, ONE, Asked, are_fractions, check_shown, made_rates, shown, times_rates
 from tests.plain import LETTERS, Plain, alike, any_values, check_raises, made_text, number_below, raised, right_content, rising
 
 PLAIN = "items a b\nhouse p 1 a\nhouse q 1 b\nhouse r 1 b"

@@ -69,15 +69,14 @@ class Rules(unittest.TestCase):
             self.assertEqual(len(bound), len(set(bound)), name)
 
     def test_l15_tables_are_only_read(self):
-        for name, tree in self.trees.items():
-            tables = {node.targets[0].id for other in self.trees.values() for node in other.body
-                      if isinstance(node, ast.Assign) and isinstance(node.value, (ast.List, ast.Dict))}
-            for place, parent, field, node in self.each_with_parent():
-                if isinstance(node, ast.Name) and node.id in tables and isinstance(node.ctx, ast.Load):
-                    if isinstance(parent, ast.Attribute):
-                        self.assertIn(parent.attr, ("get",), place)
-                    else:
-                        self.assertIsInstance(parent, (ast.Subscript, ast.Compare), place)
+        tables = {node.targets[0].id for tree in self.trees.values() for node in tree.body
+                  if isinstance(node, ast.Assign) and isinstance(node.value, (ast.List, ast.Dict))}
+        for place, parent, _, node in self.each_with_parent():
+            if isinstance(node, ast.Name) and node.id in tables and isinstance(node.ctx, ast.Load):
+                if isinstance(parent, ast.Attribute):
+                    self.assertEqual(parent.attr, "get", place)
+                else:
+                    self.assertIsInstance(parent, (ast.Subscript, ast.Compare), place)
 
     def test_l4_functions(self):
         for place, node in self.each(ast.FunctionDef, ast.Lambda):

@@ -293,11 +293,13 @@ class Lines(Case):
         word, corners, plans, prices = line
         half = (HALF, (3, 4))
         plan = ((0, (0,), (1, 4)), (0, (1,), (7, 4)))
+        late, full = ((5, 6), (5, 6)), ((0, (1,), (2, 3)),)
         first, second = ((1, 4), (1, 4)), (ONE, NOUGHT)
         self.assertEqual(prices, (first, second))
         for value, right in (
             (line, True),
             ((word, corners[:1] + (half,) + corners[1:], plans[:1] + (plan,) + plans[1:], (first,) + prices), False),
+            ((word, corners[:2] + (late,) + corners[2:], plans[:2] + (full,) + plans[2:], prices + (second,)), False),
             ((word, (corners[0], corners[2]), (plans[0], plans[2]), (first,)), False),
             ((word, corners, plans, prices[::-1]), False), ((word, corners, plans, prices + prices), False),
             ((word, corners[::-1], plans[::-1], prices), False), ((word, corners[:2], plans[:2], prices[:1]), False),
@@ -368,6 +370,17 @@ class Better(Case):
             self.assertEqual(turned, ("ranges", tuple((start, end, exchange[word]) for start, end, word in value[1])))
         self.assertTrue({"less", "more", "like", ("never", 0), ("never", 1)} <= words, words)
         self.assertGreater(often, 3)
+
+    def test_a_store_beside_itself(self):
+        chance = random.Random(13)
+        for text in TEXTS:
+            store = Store(text)
+            reads, writes = self.rates(chance, Asked(text))
+            value = better_shares(store, Store(text), reads, writes)
+            if strain_line(store, reads, writes)[0] == "line":
+                self.assertEqual(value, ("ranges", ((NOUGHT, ONE, "like"),)))
+            else:
+                self.assertEqual(value[:2], (strain_line(store, reads, writes)[0], 0))
 
     def test_three_words(self):
         # As long as b strains most both are like; then a is changed in one house, or in two.
